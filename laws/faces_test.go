@@ -1,11 +1,17 @@
 package laws
 
-import "signalbroker/crc"
+import (
+	"signalbroker/crc"
+	"signalbroker/varint"
+)
 
 // faces returns the functions of the layers that have landed.
 func faces() []face {
 	return []face{
 		{name: "crc.Sum", f: crc.Sum},
 		{name: "crc.Update", f: crc.Update},
+		{name: "varint.Size", f: varint.Size},
+		{name: "varint.Encode", f: varint.Encode},
+		{name: "varint.Decode", f: varint.Decode},
 	}
 }
