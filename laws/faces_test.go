@@ -2,6 +2,7 @@ package laws
 
 import (
 	"signalbroker/crc"
+	"signalbroker/frame"
 	"signalbroker/varint"
 )
 
@@ -13,5 +14,8 @@ func faces() []face {
 		{name: "varint.Size", f: varint.Size},
 		{name: "varint.Encode", f: varint.Encode},
 		{name: "varint.Decode", f: varint.Decode},
+		{name: "frame.Size", f: frame.Size},
+		{name: "frame.Encode", f: frame.Encode},
+		{name: "frame.Parse", f: frame.Parse},
 	}
 }
