@@ -3,6 +3,7 @@ package laws
 import (
 	"signalbroker/crc"
 	"signalbroker/frame"
+	"signalbroker/stream"
 	"signalbroker/varint"
 )
 
@@ -17,5 +18,9 @@ func faces() []face {
 		{name: "frame.Size", f: frame.Size},
 		{name: "frame.Encode", f: frame.Encode},
 		{name: "frame.Parse", f: frame.Parse},
+		{name: "stream.Valid", f: stream.Valid},
+		{name: "stream.Put", f: stream.Put},
+		{name: "stream.Take", f: stream.Take},
+		{name: "stream.All", f: stream.All},
 	}
 }
