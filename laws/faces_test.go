@@ -3,6 +3,7 @@ package laws
 import (
 	"signalbroker/crc"
 	"signalbroker/frame"
+	"signalbroker/message"
 	"signalbroker/stream"
 	"signalbroker/varint"
 )
@@ -22,5 +23,10 @@ func faces() []face {
 		{name: "stream.Put", f: stream.Put},
 		{name: "stream.Take", f: stream.Take},
 		{name: "stream.All", f: stream.All},
+		{name: "message.Valid", f: message.Valid},
+		{name: "message.Encode", f: message.Encode},
+		{name: "message.Decode", f: message.Decode},
+		{name: "message.Frame", f: message.Frame},
+		{name: "message.ForServer", f: message.ForServer},
 	}
 }

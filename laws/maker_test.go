@@ -6,7 +6,7 @@ import (
 	"reflect"
 )
 
-// maker makes arguments: mostly nonsense.
+// maker makes arguments: much of it nonsense.
 type maker struct {
 	r    *rand.Rand
 	tame bool
@@ -20,8 +20,11 @@ func (m maker) number() int {
 	return l[m.r.Intn(len(l))]
 }
 
-// value returns a value of the type t.
+// value returns a value of the type t: a sensible one half the time, if there are any.
 func (m maker) value(t reflect.Type) reflect.Value {
+	if x, ok := m.sensible(t); ok && m.r.Intn(2) == 0 {
+		return reflect.ValueOf(x)
+	}
 	v := reflect.New(t).Elem()
 	switch t.Kind() {
 	case reflect.Int:

@@ -1,0 +1,49 @@
+package laws
+
+import (
+	"reflect"
+
+	"signalbroker/api"
+	"signalbroker/message"
+)
+
+// sensible returns a value of the type t that the layers accept, for some types.
+func (m maker) sensible(t reflect.Type) (any, bool) {
+	switch t {
+	case reflect.TypeFor[[]byte]():
+		return m.frames(), true
+	case reflect.TypeFor[api.Message]():
+		return m.message(), true
+	}
+	return nil, false
+}
+
+// message returns a message with a token of the first slot of an agency, if it has one.
+func (m maker) message() api.Message {
+	x := api.Message{Kind: m.r.Intn(24)}
+	if message.ForServer(x.Kind) {
+		x.Token = append([]byte{byte(m.r.Intn(2)), byte(m.r.Intn(2))}, secret...)
+	}
+	for range m.r.Intn(9) {
+		x.Args = append(x.Args, m.r.Intn(5))
+	}
+	if x.Kind > api.KindLeft || m.r.Intn(3) == 0 {
+		x.Data = make([]byte, m.r.Intn(11))
+	}
+	return x
+}
+
+// frames returns the frames of some messages, perhaps with noise.
+func (m maker) frames() []byte {
+	b := []byte{}
+	for range m.r.Intn(6) {
+		f, _ := message.Frame(m.message())
+		b = append(b, f...)
+		if m.r.Intn(8) == 0 {
+			b = append(b, byte(m.r.Intn(256)))
+		}
+	}
+	return b
+}
+
+const secret = "12345678"
