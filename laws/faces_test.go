@@ -3,6 +3,7 @@ package laws
 import (
 	"signalbroker/crc"
 	"signalbroker/frame"
+	"signalbroker/matrix"
 	"signalbroker/message"
 	"signalbroker/stream"
 	"signalbroker/varint"
@@ -28,5 +29,9 @@ func faces() []face {
 		{name: "message.Decode", f: message.Decode},
 		{name: "message.Frame", f: message.Frame},
 		{name: "message.ForServer", f: message.ForServer},
+		{name: "matrix.Valid", f: matrix.Valid},
+		{name: "matrix.Conflict", f: matrix.Conflict},
+		{name: "matrix.Clash", f: matrix.Clash},
+		{name: "matrix.Allowed", f: matrix.Allowed},
 	}
 }
