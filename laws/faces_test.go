@@ -5,6 +5,7 @@ import (
 	"signalbroker/frame"
 	"signalbroker/matrix"
 	"signalbroker/message"
+	"signalbroker/plan"
 	"signalbroker/stream"
 	"signalbroker/varint"
 )
@@ -33,5 +34,10 @@ func faces() []face {
 		{name: "matrix.Conflict", f: matrix.Conflict},
 		{name: "matrix.Clash", f: matrix.Clash},
 		{name: "matrix.Allowed", f: matrix.Allowed},
+		{name: "plan.Junction", f: plan.Junction},
+		{name: "plan.Agency", f: plan.Agency},
+		{name: "plan.Config", f: plan.Config},
+		{name: "plan.Groups", f: plan.Groups},
+		{name: "plan.Of", f: plan.Of},
 	}
 }

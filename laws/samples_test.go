@@ -14,6 +14,12 @@ func (m maker) sensible(t reflect.Type) (any, bool) {
 		return m.frames(), true
 	case reflect.TypeFor[api.Message]():
 		return m.message(), true
+	case reflect.TypeFor[api.Junction]():
+		return m.junction(), true
+	case reflect.TypeFor[api.Agency]():
+		return m.agency(), true
+	case reflect.TypeFor[api.Config]():
+		return m.config(), true
 	}
 	return nil, false
 }
@@ -45,5 +51,3 @@ func (m maker) frames() []byte {
 	}
 	return b
 }
-
-const secret = "12345678"

@@ -1,0 +1,78 @@
+package laws
+
+import (
+	"math/rand"
+	"testing"
+
+	"signalbroker/api"
+	"signalbroker/plan"
+)
+
+// secret is that of the first token of every agency.
+const secret = "12345678"
+
+// junction returns a random junction that is valid.
+func (m maker) junction() api.Junction {
+	n, groups := 1+m.r.Intn(6), 1+m.r.Intn(3)
+	j := api.Junction{Conflicts: make([]int, n), Start: m.r.Intn(4)}
+	for p := range n {
+		j.Phases = append(j.Phases, m.phase(m.r.Intn(api.MaxRings), p*min(n, groups)/n))
+	}
+	for p, a := range j.Phases {
+		for q, b := range j.Phases[:p] {
+			if a.Ring == b.Ring || a.Group != b.Group || m.r.Intn(3) == 0 {
+				j.Conflicts[p] |= 1 << q
+				j.Conflicts[q] |= 1 << p
+			}
+		}
+	}
+	return j
+}
+
+func (m maker) phase(ring, group int) api.Phase {
+	p := api.Phase{Ring: ring, Group: group, MinGreen: 1 + m.r.Intn(3), Yellow: 1 + m.r.Intn(2), Red: m.r.Intn(3)}
+	if m.r.Intn(3) == 0 {
+		p.Walk, p.Clear = 1+m.r.Intn(2), 1+m.r.Intn(2)
+	}
+	p.MaxGreen = max(p.MinGreen, p.Walk+p.Clear) + m.r.Intn(3)
+	return p
+}
+
+// agency returns a random agency that is valid.
+func (m maker) agency() api.Agency {
+	a := api.Agency{
+		Secret:   []byte(secret),
+		Rights:   api.AllRights,
+		Class:    m.r.Intn(api.Classes),
+		Limits:   []int{1 + m.r.Intn(3), m.r.Intn(4), m.r.Intn(4), m.r.Intn(9)},
+		Requests: m.r.Intn(api.MaxRequests + 1),
+		Sessions: 1 + m.r.Intn(api.MaxSessions),
+		Burst:    3 + m.r.Intn(20),
+	}
+	if m.r.Intn(3) == 0 {
+		a.Rights = m.r.Intn(api.AllRights + 1)
+	}
+	a.Rate = m.r.Intn(a.Burst + 1)
+	return a
+}
+
+// config returns a random configuration that is valid.
+func (m maker) config() api.Config {
+	c := api.Config{Period: 1 + m.r.Intn(9), Cap: m.r.Intn(5), Hold: 1 + m.r.Intn(4), Lockout: m.r.Intn(6)}
+	for range 1 + m.r.Intn(2) {
+		c.Junctions = append(c.Junctions, m.junction())
+	}
+	for range 1 + m.r.Intn(2) {
+		c.Agencies = append(c.Agencies, m.agency())
+	}
+	return c
+}
+
+func TestSamplesAreValid(t *testing.T) {
+	m := maker{r: rand.New(rand.NewSource(1))}
+	for range 500 {
+		if c := m.config(); !plan.Config(c) {
+			t.Fatalf("%v is not valid", c)
+		}
+	}
+}
