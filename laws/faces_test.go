@@ -3,6 +3,7 @@ package laws
 import (
 	"signalbroker/crc"
 	"signalbroker/frame"
+	"signalbroker/lamp"
 	"signalbroker/matrix"
 	"signalbroker/message"
 	"signalbroker/plan"
@@ -39,5 +40,11 @@ func faces() []face {
 		{name: "plan.Config", f: plan.Config},
 		{name: "plan.Groups", f: plan.Groups},
 		{name: "plan.Of", f: plan.Of},
+		{name: "lamp.Valid", f: lamp.Valid},
+		{name: "lamp.Need", f: lamp.Need},
+		{name: "lamp.NonRed", f: lamp.NonRed},
+		{name: "lamp.Step", f: lamp.Step},
+		{name: "lamp.Count", f: lamp.Count},
+		{name: "lamp.Walk", f: lamp.Walk},
 	}
 }
