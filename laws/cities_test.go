@@ -6,13 +6,14 @@ import (
 
 	"signalbroker/api"
 	"signalbroker/plan"
+	"signalbroker/ring"
 )
 
 // secret is that of the first token of every agency.
 const secret = "12345678"
 
 // junction returns a random junction that is valid.
-func (m maker) junction() api.Junction {
+func (m *maker) junction() api.Junction {
 	n, groups := 1+m.r.Intn(6), 1+m.r.Intn(3)
 	j := api.Junction{Conflicts: make([]int, n), Start: m.r.Intn(4)}
 	for p := range n {
@@ -26,10 +27,11 @@ func (m maker) junction() api.Junction {
 			}
 		}
 	}
+	m.last = j
 	return j
 }
 
-func (m maker) phase(ring, group int) api.Phase {
+func (m *maker) phase(ring, group int) api.Phase {
 	p := api.Phase{Ring: ring, Group: group, MinGreen: 1 + m.r.Intn(3), Yellow: 1 + m.r.Intn(2), Red: m.r.Intn(3)}
 	if m.r.Intn(3) == 0 {
 		p.Walk, p.Clear = 1+m.r.Intn(2), 1+m.r.Intn(2)
@@ -38,8 +40,20 @@ func (m maker) phase(ring, group int) api.Phase {
 	return p
 }
 
+// control returns a control of the latest junction.
+func (m *maker) control() api.Control {
+	c, target := ring.Init(m.last), 0
+	for range m.r.Intn(20) {
+		if m.r.Intn(3) == 0 {
+			target = m.r.Intn(8) - 1
+		}
+		c = ring.Step(m.last, c, target)
+	}
+	return c
+}
+
 // agency returns a random agency that is valid.
-func (m maker) agency() api.Agency {
+func (m *maker) agency() api.Agency {
 	a := api.Agency{
 		Secret:   []byte(secret),
 		Rights:   api.AllRights,
@@ -57,7 +71,7 @@ func (m maker) agency() api.Agency {
 }
 
 // config returns a random configuration that is valid.
-func (m maker) config() api.Config {
+func (m *maker) config() api.Config {
 	c := api.Config{Period: 1 + m.r.Intn(9), Cap: m.r.Intn(5), Hold: 1 + m.r.Intn(4), Lockout: m.r.Intn(6)}
 	for range 1 + m.r.Intn(2) {
 		c.Junctions = append(c.Junctions, m.junction())
@@ -69,7 +83,7 @@ func (m maker) config() api.Config {
 }
 
 func TestSamplesAreValid(t *testing.T) {
-	m := maker{r: rand.New(rand.NewSource(1))}
+	m := &maker{r: rand.New(rand.NewSource(1))}
 	for range 500 {
 		if c := m.config(); !plan.Config(c) {
 			t.Fatalf("%v is not valid", c)

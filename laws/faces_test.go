@@ -7,6 +7,7 @@ import (
 	"signalbroker/matrix"
 	"signalbroker/message"
 	"signalbroker/plan"
+	"signalbroker/ring"
 	"signalbroker/stream"
 	"signalbroker/varint"
 )
@@ -46,5 +47,9 @@ func faces() []face {
 		{name: "lamp.Step", f: lamp.Step},
 		{name: "lamp.Count", f: lamp.Count},
 		{name: "lamp.Walk", f: lamp.Walk},
+		{name: "ring.Init", f: ring.Init},
+		{name: "ring.Valid", f: ring.Valid},
+		{name: "ring.Set", f: ring.Set},
+		{name: "ring.Step", f: ring.Step},
 	}
 }

@@ -176,7 +176,7 @@ func TestLaws(t *testing.T) {
 	for _, x := range faces() {
 		t.Run(x.name, func(t *testing.T) {
 			f := reflect.ValueOf(x.f)
-			m := maker{r: rand.New(rand.NewSource(int64(len(x.name)))), tame: x.tame}
+			m := &maker{r: rand.New(rand.NewSource(int64(len(x.name)))), tame: x.tame}
 			for range 300 {
 				var args []reflect.Value
 				for k := range f.Type().NumIn() {

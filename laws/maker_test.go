@@ -4,15 +4,18 @@ import (
 	"math"
 	"math/rand"
 	"reflect"
+
+	"signalbroker/api"
 )
 
 // maker makes arguments: much of it nonsense.
 type maker struct {
 	r    *rand.Rand
 	tame bool
+	last api.Junction // the latest junction, for which states are made
 }
 
-func (m maker) number() int {
+func (m *maker) number() int {
 	if m.tame || m.r.Intn(3) > 0 {
 		return m.r.Intn(14) - 3
 	}
@@ -21,7 +24,7 @@ func (m maker) number() int {
 }
 
 // value returns a value of the type t: a sensible one half the time, if there are any.
-func (m maker) value(t reflect.Type) reflect.Value {
+func (m *maker) value(t reflect.Type) reflect.Value {
 	if x, ok := m.sensible(t); ok && m.r.Intn(2) == 0 {
 		return reflect.ValueOf(x)
 	}

@@ -8,7 +8,7 @@ import (
 )
 
 // sensible returns a value of the type t that the layers accept, for some types.
-func (m maker) sensible(t reflect.Type) (any, bool) {
+func (m *maker) sensible(t reflect.Type) (any, bool) {
 	switch t {
 	case reflect.TypeFor[[]byte]():
 		return m.frames(), true
@@ -18,6 +18,8 @@ func (m maker) sensible(t reflect.Type) (any, bool) {
 		return m.junction(), true
 	case reflect.TypeFor[api.Agency]():
 		return m.agency(), true
+	case reflect.TypeFor[api.Control]():
+		return m.control(), true
 	case reflect.TypeFor[api.Config]():
 		return m.config(), true
 	}
@@ -25,7 +27,7 @@ func (m maker) sensible(t reflect.Type) (any, bool) {
 }
 
 // message returns a message with a token of the first slot of an agency, if it has one.
-func (m maker) message() api.Message {
+func (m *maker) message() api.Message {
 	x := api.Message{Kind: m.r.Intn(24)}
 	if message.ForServer(x.Kind) {
 		x.Token = append([]byte{byte(m.r.Intn(2)), byte(m.r.Intn(2))}, secret...)
@@ -40,7 +42,7 @@ func (m maker) message() api.Message {
 }
 
 // frames returns the frames of some messages, perhaps with noise.
-func (m maker) frames() []byte {
+func (m *maker) frames() []byte {
 	b := []byte{}
 	for range m.r.Intn(6) {
 		f, _ := message.Frame(m.message())
