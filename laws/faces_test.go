@@ -6,6 +6,7 @@ import (
 	"signalbroker/lamp"
 	"signalbroker/matrix"
 	"signalbroker/message"
+	"signalbroker/monitor"
 	"signalbroker/plan"
 	"signalbroker/ring"
 	"signalbroker/stream"
@@ -51,5 +52,7 @@ func faces() []face {
 		{name: "ring.Valid", f: ring.Valid},
 		{name: "ring.Set", f: ring.Set},
 		{name: "ring.Step", f: ring.Step},
+		{name: "monitor.Seen", f: monitor.Seen},
+		{name: "monitor.Forbidden", f: monitor.Forbidden},
 	}
 }
