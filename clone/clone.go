@@ -13,3 +13,9 @@ func Control(c api.Control) api.Control {
 	c.Next = slices.Clone(c.Next)
 	return c
 }
+
+// Signal returns a copy of a signal.
+func Signal(s api.Signal) api.Signal {
+	s.Control = Control(s.Control)
+	return s
+}

@@ -3,6 +3,7 @@ package laws
 import (
 	"signalbroker/crc"
 	"signalbroker/frame"
+	"signalbroker/junction"
 	"signalbroker/lamp"
 	"signalbroker/matrix"
 	"signalbroker/message"
@@ -54,5 +55,10 @@ func faces() []face {
 		{name: "ring.Step", f: ring.Step},
 		{name: "monitor.Seen", f: monitor.Seen},
 		{name: "monitor.Forbidden", f: monitor.Forbidden},
+		{name: "junction.New", f: junction.New},
+		{name: "junction.Valid", f: junction.Valid},
+		{name: "junction.Step", f: junction.Step},
+		{name: "junction.Reset", f: junction.Reset},
+		{name: "junction.Lamps", f: junction.Lamps},
 	}
 }
