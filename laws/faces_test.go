@@ -12,6 +12,7 @@ import (
 	"signalbroker/ring"
 	"signalbroker/stream"
 	"signalbroker/varint"
+	"signalbroker/worst"
 )
 
 // faces returns the functions of the layers that have landed.
@@ -60,5 +61,7 @@ func faces() []face {
 		{name: "junction.Step", f: junction.Step},
 		{name: "junction.Reset", f: junction.Reset},
 		{name: "junction.Lamps", f: junction.Lamps},
+		{name: "worst.Transition", f: worst.Transition},
+		{name: "worst.Reach", f: worst.Reach},
 	}
 }
