@@ -9,6 +9,7 @@ import (
 	"signalbroker/message"
 	"signalbroker/monitor"
 	"signalbroker/plan"
+	"signalbroker/rights"
 	"signalbroker/ring"
 	"signalbroker/stream"
 	"signalbroker/varint"
@@ -63,5 +64,9 @@ func faces() []face {
 		{name: "junction.Lamps", f: junction.Lamps},
 		{name: "worst.Transition", f: worst.Transition},
 		{name: "worst.Reach", f: worst.Reach},
+		{name: "rights.Valid", f: rights.Valid},
+		{name: "rights.Within", f: rights.Within},
+		{name: "rights.Needed", f: rights.Needed},
+		{name: "rights.Permits", f: rights.Permits},
 	}
 }
