@@ -19,3 +19,18 @@ func Signal(s api.Signal) api.Signal {
 	s.Control = Control(s.Control)
 	return s
 }
+
+// Each returns a copy of a list, made with a function that copies an element.
+func Each[T any](l []T, one func(T) T) []T {
+	c := make([]T, len(l))
+	for k, x := range l {
+		c[k] = one(x)
+	}
+	return c
+}
+
+// Token returns a copy of a token.
+func Token(t api.Token) api.Token {
+	t.Secret = slices.Clone(t.Secret)
+	return t
+}

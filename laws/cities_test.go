@@ -7,6 +7,7 @@ import (
 	"signalbroker/api"
 	"signalbroker/plan"
 	"signalbroker/ring"
+	"signalbroker/token"
 )
 
 // secret is that of the first token of every agency.
@@ -68,6 +69,18 @@ func (m *maker) agency() api.Agency {
 	}
 	a.Rate = m.r.Intn(a.Burst + 1)
 	return a
+}
+
+// tokens returns the slots of an agency.
+func (m *maker) tokens() []api.Token {
+	l := token.New(m.agency())
+	for range m.r.Intn(8) {
+		parent := m.r.Intn(3)
+		if n, _, e := token.Derive(l, parent, l[parent].Rights&m.r.Intn(64), m.r.Intn(3), m.r.Intn(9), []byte(secret), m.r.Intn(5)); e == api.OK {
+			l = n
+		}
+	}
+	return l
 }
 
 // config returns a random configuration that is valid.

@@ -12,6 +12,7 @@ import (
 	"signalbroker/rights"
 	"signalbroker/ring"
 	"signalbroker/stream"
+	"signalbroker/token"
 	"signalbroker/varint"
 	"signalbroker/worst"
 )
@@ -68,5 +69,13 @@ func faces() []face {
 		{name: "rights.Within", f: rights.Within},
 		{name: "rights.Needed", f: rights.Needed},
 		{name: "rights.Permits", f: rights.Permits},
+		{name: "token.New", f: token.New},
+		{name: "token.Valid", f: token.Valid},
+		{name: "token.Bytes", f: token.Bytes},
+		{name: "token.Check", f: token.Check},
+		{name: "token.Below", f: token.Below},
+		{name: "token.Derive", f: token.Derive},
+		{name: "token.Revoke", f: token.Revoke},
+		{name: "token.Expire", f: token.Expire},
 	}
 }

@@ -22,6 +22,8 @@ func (m *maker) sensible(t reflect.Type) (any, bool) {
 		return m.control(), true
 	case reflect.TypeFor[api.Signal]():
 		return api.Signal{Control: m.control(), Latched: m.r.Intn(4) == 0}, true
+	case reflect.TypeFor[[]api.Token]():
+		return m.tokens(), true
 	case reflect.TypeFor[api.Config]():
 		return m.config(), true
 	}
