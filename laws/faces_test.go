@@ -14,6 +14,7 @@ import (
 	"signalbroker/stream"
 	"signalbroker/token"
 	"signalbroker/varint"
+	"signalbroker/vehicle"
 	"signalbroker/worst"
 )
 
@@ -77,5 +78,10 @@ func faces() []face {
 		{name: "token.Derive", f: token.Derive},
 		{name: "token.Revoke", f: token.Revoke},
 		{name: "token.Expire", f: token.Expire},
+		{name: "vehicle.Valid", f: vehicle.Valid},
+		{name: "vehicle.Find", f: vehicle.Find},
+		{name: "vehicle.Count", f: vehicle.Count},
+		{name: "vehicle.Register", f: vehicle.Register},
+		{name: "vehicle.Remove", f: vehicle.Remove},
 	}
 }
