@@ -9,6 +9,7 @@ import (
 	"signalbroker/message"
 	"signalbroker/monitor"
 	"signalbroker/plan"
+	"signalbroker/rate"
 	"signalbroker/rights"
 	"signalbroker/ring"
 	"signalbroker/stream"
@@ -83,5 +84,9 @@ func faces() []face {
 		{name: "vehicle.Count", f: vehicle.Count},
 		{name: "vehicle.Register", f: vehicle.Register},
 		{name: "vehicle.Remove", f: vehicle.Remove},
+		{name: "rate.New", f: rate.New},
+		{name: "rate.Valid", f: rate.Valid},
+		{name: "rate.Tick", f: rate.Tick},
+		{name: "rate.Take", f: rate.Take},
 	}
 }
