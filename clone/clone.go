@@ -34,3 +34,18 @@ func Token(t api.Token) api.Token {
 	t.Secret = slices.Clone(t.Secret)
 	return t
 }
+
+// Agency returns a copy of an agency.
+func Agency(a api.Agency) api.Agency {
+	a.Secret = slices.Clone(a.Secret)
+	a.Limits = slices.Clone(a.Limits)
+	return a
+}
+
+// Registry returns a copy of a registry.
+func Registry(r api.Registry) api.Registry {
+	r.Agency = Agency(r.Agency)
+	r.Tokens = Each(r.Tokens, Token)
+	r.Vehicles = slices.Clone(r.Vehicles)
+	return r
+}

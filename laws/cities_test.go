@@ -6,6 +6,7 @@ import (
 
 	"signalbroker/api"
 	"signalbroker/plan"
+	"signalbroker/registry"
 	"signalbroker/ring"
 	"signalbroker/token"
 )
@@ -81,6 +82,23 @@ func (m *maker) tokens() []api.Token {
 		}
 	}
 	return l
+}
+
+func (m *maker) vehicles() []api.Vehicle {
+	l := []api.Vehicle{}
+	for id := range 8 {
+		if m.r.Intn(3) == 0 {
+			l = append(l, api.Vehicle{ID: id, Class: m.r.Intn(api.Classes)})
+		}
+	}
+	return l
+}
+
+func (m *maker) registry() api.Registry {
+	r := registry.New(m.r.Intn(2), m.agency())
+	r.Tokens = m.tokens()
+	r.Vehicles = m.vehicles()
+	return r
 }
 
 // config returns a random configuration that is valid.

@@ -10,6 +10,7 @@ import (
 	"signalbroker/monitor"
 	"signalbroker/plan"
 	"signalbroker/rate"
+	"signalbroker/registry"
 	"signalbroker/rights"
 	"signalbroker/ring"
 	"signalbroker/stream"
@@ -88,5 +89,10 @@ func faces() []face {
 		{name: "rate.Valid", f: rate.Valid},
 		{name: "rate.Tick", f: rate.Tick},
 		{name: "rate.Take", f: rate.Take},
+		{name: "registry.New", f: registry.New},
+		{name: "registry.Valid", f: registry.Valid},
+		{name: "registry.Tick", f: registry.Tick},
+		{name: "registry.Open", f: registry.Open},
+		{name: "registry.Do", f: registry.Do},
 	}
 }

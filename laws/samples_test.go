@@ -24,6 +24,10 @@ func (m *maker) sensible(t reflect.Type) (any, bool) {
 		return api.Signal{Control: m.control(), Latched: m.r.Intn(4) == 0}, true
 	case reflect.TypeFor[[]api.Token]():
 		return m.tokens(), true
+	case reflect.TypeFor[[]api.Vehicle]():
+		return m.vehicles(), true
+	case reflect.TypeFor[api.Registry]():
+		return m.registry(), true
 	case reflect.TypeFor[api.Config]():
 		return m.config(), true
 	}
