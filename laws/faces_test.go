@@ -17,6 +17,7 @@ import (
 	"signalbroker/token"
 	"signalbroker/varint"
 	"signalbroker/vehicle"
+	"signalbroker/window"
 	"signalbroker/worst"
 )
 
@@ -94,5 +95,9 @@ func faces() []face {
 		{name: "registry.Tick", f: registry.Tick},
 		{name: "registry.Open", f: registry.Open},
 		{name: "registry.Do", f: registry.Do},
+		{name: "window.Make", f: window.Make},
+		{name: "window.Valid", f: window.Valid},
+		{name: "window.Live", f: window.Live},
+		{name: "window.Mark", f: window.Mark},
 	}
 }
