@@ -49,3 +49,9 @@ func Registry(r api.Registry) api.Registry {
 	r.Vehicles = slices.Clone(r.Vehicles)
 	return r
 }
+
+// Request returns a copy of a request.
+func Request(r api.Request) api.Request {
+	r.Legs = slices.Clone(r.Legs)
+	return r
+}

@@ -101,6 +101,22 @@ func (m *maker) registry() api.Registry {
 	return r
 }
 
+func (m *maker) requests() []api.Request {
+	l := []api.Request{}
+	for id := range 8 {
+		if m.r.Intn(3) > 0 || len(l) == api.MaxRequests {
+			continue
+		}
+		r := api.Request{ID: id, Vehicle: m.r.Intn(4), Class: m.r.Intn(api.Classes), Until: m.r.Intn(20)}
+		for _, junction := range m.r.Perm(api.MaxJunctions)[:1+m.r.Intn(api.MaxLegs)] {
+			from := m.r.Intn(9)
+			r.Legs = append(r.Legs, api.Leg{Junction: junction, Phase: m.r.Intn(4), From: from, To: from + m.r.Intn(9), Since: m.r.Intn(4) - 1})
+		}
+		l = append(l, r)
+	}
+	return l
+}
+
 // config returns a random configuration that is valid.
 func (m *maker) config() api.Config {
 	c := api.Config{Period: 1 + m.r.Intn(9), Cap: m.r.Intn(5), Hold: 1 + m.r.Intn(4), Lockout: m.r.Intn(6)}

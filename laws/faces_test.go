@@ -11,6 +11,7 @@ import (
 	"signalbroker/plan"
 	"signalbroker/rate"
 	"signalbroker/registry"
+	"signalbroker/request"
 	"signalbroker/rights"
 	"signalbroker/ring"
 	"signalbroker/stream"
@@ -99,5 +100,14 @@ func faces() []face {
 		{name: "window.Valid", f: window.Valid},
 		{name: "window.Live", f: window.Live},
 		{name: "window.Mark", f: window.Mark},
+		{name: "request.Valid", f: request.Valid},
+		{name: "request.Find", f: request.Find},
+		{name: "request.Submit", f: request.Submit},
+		{name: "request.Update", f: request.Update},
+		{name: "request.Cancel", f: request.Cancel},
+		{name: "request.Without", f: request.Without},
+		{name: "request.Expire", f: request.Expire},
+		{name: "request.Mark", f: request.Mark},
+		{name: "request.Claims", f: request.Claims},
 	}
 }

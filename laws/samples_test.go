@@ -28,6 +28,8 @@ func (m *maker) sensible(t reflect.Type) (any, bool) {
 		return m.vehicles(), true
 	case reflect.TypeFor[api.Registry]():
 		return m.registry(), true
+	case reflect.TypeFor[[]api.Request]():
+		return m.requests(), true
 	case reflect.TypeFor[api.Config]():
 		return m.config(), true
 	}
