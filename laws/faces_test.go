@@ -9,6 +9,7 @@ import (
 	"signalbroker/message"
 	"signalbroker/monitor"
 	"signalbroker/plan"
+	"signalbroker/rank"
 	"signalbroker/rate"
 	"signalbroker/registry"
 	"signalbroker/request"
@@ -109,5 +110,11 @@ func faces() []face {
 		{name: "request.Expire", f: request.Expire},
 		{name: "request.Mark", f: request.Mark},
 		{name: "request.Claims", f: request.Claims},
+		{name: "rank.Emergency", f: rank.Emergency},
+		{name: "rank.Start", f: rank.Start},
+		{name: "rank.Level", f: rank.Level},
+		{name: "rank.Locked", f: rank.Locked},
+		{name: "rank.Less", f: rank.Less},
+		{name: "rank.Best", f: rank.Best},
 	}
 }

@@ -154,8 +154,6 @@ func TestCheck(t *testing.T) {
 	expectCheck(t, "without the right for an audit", 2, of(2), api.KindAudit, 5, 0, denied)
 	expectCheck(t, "a kind that needs none", 2, of(6), api.KindBudget, 5, 6, api.OK)
 	expectCheck(t, "another agency", 1, of(0), api.KindHello, 5, 0, denied)
-	expectCheck(t, "an agency of the same byte", 258, of(0), api.KindHello, 5, 0, denied)
-	expectCheck(t, "a negative agency", -254, of(0), api.KindHello, 5, 0, denied)
 	expectCheck(t, "nothing", 2, nil, api.KindHello, 5, 0, denied)
 	expectCheck(t, "a byte less", 2, of(0)[:9], api.KindHello, 5, 0, denied)
 	expectCheck(t, "a byte more", 2, append(of(0), 0), api.KindHello, 5, 0, denied)
