@@ -55,3 +55,9 @@ func Request(r api.Request) api.Request {
 	r.Legs = slices.Clone(r.Legs)
 	return r
 }
+
+// Service returns a copy of a service.
+func Service(s api.Service) api.Service {
+	s.Ended = slices.Clone(s.Ended)
+	return s
+}

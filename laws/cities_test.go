@@ -5,6 +5,7 @@ import (
 	"testing"
 
 	"signalbroker/api"
+	"signalbroker/arbiter"
 	"signalbroker/plan"
 	"signalbroker/registry"
 	"signalbroker/ring"
@@ -113,6 +114,30 @@ func (m *maker) requests() []api.Request {
 			r.Legs = append(r.Legs, api.Leg{Junction: junction, Phase: m.r.Intn(4), From: from, To: from + m.r.Intn(9), Since: m.r.Intn(4) - 1})
 		}
 		l = append(l, r)
+	}
+	return l
+}
+
+// service returns a service of the latest junction.
+func (m *maker) service() api.Service {
+	s := arbiter.New(len(m.last.Phases))
+	for range m.r.Intn(9) {
+		s = arbiter.Decide(api.Config{Period: 2, Cap: 3, Hold: 2, Lockout: 2}, s, m.claims(), m.r.Intn(20))
+		s = arbiter.Count(s, m.r.Intn(2) == 0)
+	}
+	return s
+}
+
+func (m *maker) claims() []api.Claim {
+	l := []api.Claim{}
+	for range m.r.Intn(5) {
+		l = append(l, api.Claim{
+			Agency: m.r.Intn(2),
+			ID:     m.r.Intn(4),
+			Phase:  m.r.Intn(max(1, len(m.last.Phases))),
+			Class:  m.r.Intn(api.Classes),
+			Since:  m.r.Intn(9),
+		})
 	}
 	return l
 }

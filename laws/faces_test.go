@@ -1,6 +1,7 @@
 package laws
 
 import (
+	"signalbroker/arbiter"
 	"signalbroker/crc"
 	"signalbroker/frame"
 	"signalbroker/junction"
@@ -116,5 +117,10 @@ func faces() []face {
 		{name: "rank.Locked", f: rank.Locked},
 		{name: "rank.Less", f: rank.Less},
 		{name: "rank.Best", f: rank.Best},
+		{name: "arbiter.New", f: arbiter.New, tame: true},
+		{name: "arbiter.Valid", f: arbiter.Valid},
+		{name: "arbiter.End", f: arbiter.End},
+		{name: "arbiter.Decide", f: arbiter.Decide},
+		{name: "arbiter.Count", f: arbiter.Count},
 	}
 }

@@ -30,6 +30,10 @@ func (m *maker) sensible(t reflect.Type) (any, bool) {
 		return m.registry(), true
 	case reflect.TypeFor[[]api.Request]():
 		return m.requests(), true
+	case reflect.TypeFor[api.Service]():
+		return m.service(), true
+	case reflect.TypeFor[[]api.Claim]():
+		return m.claims(), true
 	case reflect.TypeFor[api.Config]():
 		return m.config(), true
 	}
