@@ -3,6 +3,7 @@ package laws
 import (
 	"signalbroker/arbiter"
 	"signalbroker/crc"
+	"signalbroker/drive"
 	"signalbroker/frame"
 	"signalbroker/junction"
 	"signalbroker/lamp"
@@ -122,5 +123,6 @@ func faces() []face {
 		{name: "arbiter.End", f: arbiter.End},
 		{name: "arbiter.Decide", f: arbiter.Decide},
 		{name: "arbiter.Count", f: arbiter.Count},
+		{name: "drive.Step", f: drive.Step},
 	}
 }
