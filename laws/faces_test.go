@@ -13,6 +13,7 @@ import (
 	"signalbroker/plan"
 	"signalbroker/rank"
 	"signalbroker/rate"
+	"signalbroker/record"
 	"signalbroker/registry"
 	"signalbroker/request"
 	"signalbroker/rights"
@@ -124,5 +125,10 @@ func faces() []face {
 		{name: "arbiter.Decide", f: arbiter.Decide},
 		{name: "arbiter.Count", f: arbiter.Count},
 		{name: "drive.Step", f: drive.Step},
+		{name: "record.Of", f: record.Of},
+		{name: "record.Flashing", f: record.Flashing},
+		{name: "record.Size", f: record.Size},
+		{name: "record.Bytes", f: record.Bytes},
+		{name: "record.Parse", f: record.Parse},
 	}
 }
