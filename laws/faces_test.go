@@ -18,6 +18,7 @@ import (
 	"signalbroker/request"
 	"signalbroker/rights"
 	"signalbroker/ring"
+	"signalbroker/status"
 	"signalbroker/stream"
 	"signalbroker/token"
 	"signalbroker/varint"
@@ -130,5 +131,9 @@ func faces() []face {
 		{name: "record.Size", f: record.Size},
 		{name: "record.Bytes", f: record.Bytes},
 		{name: "record.Parse", f: record.Parse},
+		{name: "status.Code", f: status.Code},
+		{name: "status.Codes", f: status.Codes, tame: true},
+		{name: "status.Message", f: status.Message},
+		{name: "status.Feed", f: status.Feed},
 	}
 }
