@@ -61,3 +61,9 @@ func Service(s api.Service) api.Service {
 	s.Ended = slices.Clone(s.Ended)
 	return s
 }
+
+// Session returns a copy of a session.
+func Session(s api.Session) api.Session {
+	s.Stream.Buffer = slices.Clone(s.Stream.Buffer)
+	return s
+}

@@ -5,6 +5,7 @@ import (
 	"signalbroker/crc"
 	"signalbroker/drive"
 	"signalbroker/frame"
+	"signalbroker/inbox"
 	"signalbroker/junction"
 	"signalbroker/lamp"
 	"signalbroker/matrix"
@@ -135,5 +136,9 @@ func faces() []face {
 		{name: "status.Codes", f: status.Codes, tame: true},
 		{name: "status.Message", f: status.Message},
 		{name: "status.Feed", f: status.Feed},
+		{name: "inbox.Open", f: inbox.Open},
+		{name: "inbox.Drop", f: inbox.Drop},
+		{name: "inbox.Receive", f: inbox.Receive},
+		{name: "inbox.Take", f: inbox.Take},
 	}
 }

@@ -34,6 +34,8 @@ func (m *maker) sensible(t reflect.Type) (any, bool) {
 		return m.service(), true
 	case reflect.TypeFor[[]api.Claim]():
 		return m.claims(), true
+	case reflect.TypeFor[api.Session]():
+		return api.Session{Open: m.r.Intn(4) > 0, Dropped: m.r.Intn(3) == 0, Stream: api.Stream{Buffer: m.frames()}}, true
 	case reflect.TypeFor[api.Config]():
 		return m.config(), true
 	}
