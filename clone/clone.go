@@ -67,3 +67,12 @@ func Session(s api.Session) api.Session {
 	s.Stream.Buffer = slices.Clone(s.Stream.Buffer)
 	return s
 }
+
+// Desk returns a copy of a desk.
+func Desk(d api.Desk) api.Desk {
+	d.Registry = Registry(d.Registry)
+	d.Requests = Each(d.Requests, Request)
+	d.Draws = Each(d.Draws, slices.Clone)
+	d.Audit = slices.Clone(d.Audit)
+	return d
+}

@@ -6,6 +6,7 @@ import (
 
 	"signalbroker/api"
 	"signalbroker/arbiter"
+	"signalbroker/desk"
 	"signalbroker/plan"
 	"signalbroker/registry"
 	"signalbroker/ring"
@@ -140,6 +141,17 @@ func (m *maker) claims() []api.Claim {
 		})
 	}
 	return l
+}
+
+func (m *maker) desk() api.Desk {
+	d := desk.New(m.r.Intn(2), m.agency())
+	d.Registry.Tokens = m.tokens()
+	d.Registry.Vehicles = m.vehicles()
+	d.Requests = m.requests()
+	for range m.r.Intn(3) {
+		d.Draws = append(d.Draws, []byte(secret))
+	}
+	return d
 }
 
 // config returns a random configuration that is valid.

@@ -3,6 +3,7 @@ package laws
 import (
 	"signalbroker/arbiter"
 	"signalbroker/crc"
+	"signalbroker/desk"
 	"signalbroker/drive"
 	"signalbroker/frame"
 	"signalbroker/inbox"
@@ -140,5 +141,10 @@ func faces() []face {
 		{name: "inbox.Drop", f: inbox.Drop},
 		{name: "inbox.Receive", f: inbox.Receive},
 		{name: "inbox.Take", f: inbox.Take},
+		{name: "desk.New", f: desk.New, tame: true},
+		{name: "desk.Handle", f: desk.Handle},
+		{name: "desk.Begin", f: desk.Begin},
+		{name: "desk.Tick", f: desk.Tick},
+		{name: "desk.Status", f: desk.Status, tame: true},
 	}
 }

@@ -36,6 +36,10 @@ func (m *maker) sensible(t reflect.Type) (any, bool) {
 		return m.claims(), true
 	case reflect.TypeFor[api.Session]():
 		return api.Session{Open: m.r.Intn(4) > 0, Dropped: m.r.Intn(3) == 0, Stream: api.Stream{Buffer: m.frames()}}, true
+	case reflect.TypeFor[api.Item]():
+		return m.item(), true
+	case reflect.TypeFor[api.Desk]():
+		return m.desk(), true
 	case reflect.TypeFor[api.Config]():
 		return m.config(), true
 	}
@@ -55,6 +59,13 @@ func (m *maker) message() api.Message {
 		x.Data = make([]byte, m.r.Intn(11))
 	}
 	return x
+}
+
+// item returns what a frame contains.
+func (m *maker) item() api.Item {
+	x := m.message()
+	payload, _ := message.Encode(x)
+	return api.Item{Kind: x.Kind, Payload: payload}
 }
 
 // frames returns the frames of some messages, perhaps with noise.
