@@ -76,3 +76,20 @@ func Desk(d api.Desk) api.Desk {
 	d.Audit = slices.Clone(d.Audit)
 	return d
 }
+
+// View returns a copy of a view.
+func View(v api.View) api.View {
+	v.Colors = slices.Clone(v.Colors)
+	v.Counts = slices.Clone(v.Counts)
+	return v
+}
+
+// City returns a copy of a city. The configuration never changes, so that it is shared.
+func City(c api.City) api.City {
+	c.Desks = Each(c.Desks, Desk)
+	c.Signals = Each(c.Signals, Signal)
+	c.Services = Each(c.Services, Service)
+	c.Stuck = slices.Clone(c.Stuck)
+	c.Views = Each(c.Views, View)
+	return c
+}

@@ -7,6 +7,7 @@ import (
 	"signalbroker/api"
 	"signalbroker/arbiter"
 	"signalbroker/desk"
+	"signalbroker/model"
 	"signalbroker/plan"
 	"signalbroker/registry"
 	"signalbroker/ring"
@@ -162,6 +163,23 @@ func (m *maker) config() api.Config {
 	}
 	for range 1 + m.r.Intn(2) {
 		c.Agencies = append(c.Agencies, m.agency())
+	}
+	return c
+}
+
+// city returns a city after some ticks.
+func (m *maker) city() api.City {
+	c := model.New(m.config())
+	for k := range c.Desks {
+		d := m.desk()
+		d.Audit = c.Desks[k].Audit
+		d.Registry.Number = k
+		c.Desks[k] = d
+	}
+	for range m.r.Intn(6) {
+		c = model.Draw(c, m.r.Intn(2), []byte(secret))
+		c = model.Stuck(c, m.r.Intn(9), m.r.Intn(9))
+		c, _ = model.Tick(c, m.inputs())
 	}
 	return c
 }

@@ -11,6 +11,7 @@ import (
 	"signalbroker/lamp"
 	"signalbroker/matrix"
 	"signalbroker/message"
+	"signalbroker/model"
 	"signalbroker/monitor"
 	"signalbroker/plan"
 	"signalbroker/rank"
@@ -146,5 +147,10 @@ func faces() []face {
 		{name: "desk.Begin", f: desk.Begin},
 		{name: "desk.Tick", f: desk.Tick},
 		{name: "desk.Status", f: desk.Status, tame: true},
+		{name: "model.New", f: model.New},
+		{name: "model.Draw", f: model.Draw},
+		{name: "model.Stuck", f: model.Stuck},
+		{name: "model.Claims", f: model.Claims},
+		{name: "model.Tick", f: model.Tick, tame: true},
 	}
 }

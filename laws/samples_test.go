@@ -40,6 +40,10 @@ func (m *maker) sensible(t reflect.Type) (any, bool) {
 		return m.item(), true
 	case reflect.TypeFor[api.Desk]():
 		return m.desk(), true
+	case reflect.TypeFor[api.City]():
+		return m.city(), true
+	case reflect.TypeFor[[]api.Input]():
+		return m.inputs(), true
 	case reflect.TypeFor[api.Config]():
 		return m.config(), true
 	}
@@ -66,6 +70,18 @@ func (m *maker) item() api.Item {
 	x := m.message()
 	payload, _ := message.Encode(x)
 	return api.Item{Kind: x.Kind, Payload: payload}
+}
+
+func (m *maker) inputs() []api.Input {
+	l := []api.Input{}
+	for range m.r.Intn(5) {
+		x := api.Input{Open: m.r.Intn(5) > 0}
+		for range m.r.Intn(4) {
+			x.Items = append(x.Items, m.item())
+		}
+		l = append(l, x)
+	}
+	return l
 }
 
 // frames returns the frames of some messages, perhaps with noise.
