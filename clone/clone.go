@@ -93,3 +93,10 @@ func City(c api.City) api.City {
 	c.Views = Each(c.Views, View)
 	return c
 }
+
+// Broker returns a copy of a broker.
+func Broker(b api.Broker) api.Broker {
+	b.City = City(b.City)
+	b.Sessions = Each(b.Sessions, Session)
+	return b
+}

@@ -6,6 +6,7 @@ import (
 
 	"signalbroker/api"
 	"signalbroker/arbiter"
+	"signalbroker/broker"
 	"signalbroker/desk"
 	"signalbroker/model"
 	"signalbroker/plan"
@@ -182,6 +183,18 @@ func (m *maker) city() api.City {
 		c, _ = model.Tick(c, m.inputs())
 	}
 	return c
+}
+
+// broker returns a broker after some events.
+func (m *maker) broker() api.Broker {
+	b := broker.New(m.config())
+	for s := range 4 {
+		b, _, _ = broker.Do(b, api.Event{Kind: api.EvOpen, Session: s})
+	}
+	for _, e := range m.script() {
+		b, _, _ = broker.Do(b, e)
+	}
+	return b
 }
 
 func TestSamplesAreValid(t *testing.T) {

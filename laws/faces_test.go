@@ -2,6 +2,7 @@ package laws
 
 import (
 	"signalbroker/arbiter"
+	"signalbroker/broker"
 	"signalbroker/crc"
 	"signalbroker/desk"
 	"signalbroker/drive"
@@ -152,5 +153,10 @@ func faces() []face {
 		{name: "model.Stuck", f: model.Stuck},
 		{name: "model.Claims", f: model.Claims},
 		{name: "model.Tick", f: model.Tick, tame: true},
+		{name: "broker.New", f: broker.New},
+		{name: "broker.Base", f: broker.Base},
+		{name: "broker.Owner", f: broker.Owner},
+		{name: "broker.Do", f: broker.Do, tame: true},
+		{name: "broker.Run", f: broker.Run},
 	}
 }

@@ -44,6 +44,10 @@ func (m *maker) sensible(t reflect.Type) (any, bool) {
 		return m.city(), true
 	case reflect.TypeFor[[]api.Input]():
 		return m.inputs(), true
+	case reflect.TypeFor[api.Broker]():
+		return m.broker(), true
+	case reflect.TypeFor[[]api.Event]():
+		return m.script(), true
 	case reflect.TypeFor[api.Config]():
 		return m.config(), true
 	}
@@ -80,6 +84,22 @@ func (m *maker) inputs() []api.Input {
 			x.Items = append(x.Items, m.item())
 		}
 		l = append(l, x)
+	}
+	return l
+}
+
+// script returns the events of a script.
+func (m *maker) script() []api.Event {
+	l := []api.Event{}
+	for range m.r.Intn(30) {
+		e := api.Event{Kind: 1 + m.r.Intn(7), Session: m.r.Intn(4), A: m.r.Intn(3), B: m.r.Intn(3)}
+		if e.Kind == api.EvBytes {
+			e.Bytes = m.frames()
+		}
+		if e.Kind == api.EvDraw {
+			e.Bytes = []byte(secret)
+		}
+		l = append(l, e)
 	}
 	return l
 }
