@@ -27,6 +27,7 @@ import (
 	"signalbroker/token"
 	"signalbroker/varint"
 	"signalbroker/vehicle"
+	"signalbroker/view"
 	"signalbroker/window"
 	"signalbroker/worst"
 )
@@ -158,5 +159,8 @@ func faces() []face {
 		{name: "broker.Owner", f: broker.Owner},
 		{name: "broker.Do", f: broker.Do, tame: true},
 		{name: "broker.Run", f: broker.Run},
+		{name: "view.Mine", f: view.Mine},
+		{name: "view.Views", f: view.Views},
+		{name: "view.Replay", f: view.Replay},
 	}
 }

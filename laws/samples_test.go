@@ -54,8 +54,19 @@ func (m *maker) sensible(t reflect.Type) (any, bool) {
 	return nil, false
 }
 
-// message returns a message with a token of the first slot of an agency, if it has one.
+// message returns a message, mostly a valid one, with a token of one of the first slots of an agency, if it has one.
 func (m *maker) message() api.Message {
+	x := m.anyMessage()
+	for range 20 {
+		if message.Valid(x) {
+			break
+		}
+		x = m.anyMessage()
+	}
+	return x
+}
+
+func (m *maker) anyMessage() api.Message {
 	x := api.Message{Kind: m.r.Intn(24)}
 	if message.ForServer(x.Kind) {
 		x.Token = append([]byte{byte(m.r.Intn(2)), byte(m.r.Intn(2))}, secret...)
