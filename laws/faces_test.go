@@ -2,6 +2,7 @@ package laws
 
 import (
 	"signalbroker/arbiter"
+	"signalbroker/bound"
 	"signalbroker/broker"
 	"signalbroker/crc"
 	"signalbroker/desk"
@@ -162,5 +163,8 @@ func faces() []face {
 		{name: "view.Mine", f: view.Mine},
 		{name: "view.Views", f: view.Views},
 		{name: "view.Replay", f: view.Replay},
+		{name: "bound.Bound", f: bound.Bound},
+		{name: "bound.Streak", f: bound.Streak},
+		{name: "bound.Longest", f: bound.Longest},
 	}
 }
