@@ -23,10 +23,15 @@ func (m *maker) number() int {
 	return l[m.r.Intn(len(l))]
 }
 
-// value returns a value of the type t: a sensible one half the time, if there are any.
+// value returns a value of the type t: if there are any, a sensible one half the time, and one that is nearly so a quarter of the time.
 func (m *maker) value(t reflect.Type) reflect.Value {
-	if x, ok := m.sensible(t); ok && m.r.Intn(2) == 0 {
-		return reflect.ValueOf(x)
+	if x, ok := m.sensible(t); ok && m.r.Intn(4) > 0 {
+		v := reflect.New(t).Elem()
+		v.Set(reflect.ValueOf(x))
+		if m.r.Intn(3) == 0 {
+			m.disturb(v)
+		}
+		return v
 	}
 	v := reflect.New(t).Elem()
 	switch t.Kind() {
@@ -52,4 +57,39 @@ func (m *maker) value(t reflect.Type) reflect.Value {
 		}
 	}
 	return v
+}
+
+// parts returns the numbers and slices within v.
+func parts(v reflect.Value) []reflect.Value {
+	var l []reflect.Value
+	switch v.Kind() {
+	case reflect.Int:
+		return []reflect.Value{v}
+	case reflect.Slice:
+		if v.Len() > 0 {
+			l = append(l, v)
+		}
+		for k := range v.Len() {
+			l = append(l, parts(v.Index(k))...)
+		}
+	case reflect.Struct:
+		for k := range v.NumField() {
+			l = append(l, parts(v.Field(k))...)
+		}
+	}
+	return l
+}
+
+// disturb changes a number within v, or takes the last element of a slice away.
+func (m *maker) disturb(v reflect.Value) {
+	l := parts(v)
+	if len(l) == 0 {
+		return
+	}
+	x := l[m.r.Intn(len(l))]
+	if x.Kind() == reflect.Slice {
+		x.Set(x.Slice(0, x.Len()-1))
+		return
+	}
+	x.SetInt(int64(m.number()))
 }
