@@ -174,6 +174,12 @@ func TestRegistryOrders(t *testing.T) {
 		d.Draws = d.Draws[1:]
 	}, issued)
 	expectFault(t, "Derive that fails", busy(), item(0, api.KindDerive, 64, 2, 60), 1, api.ErrRange)
+	single := busy()
+	single.Draws = single.Draws[:1]
+	expectHandle(t, "Derive with the last draw", single, item(0, api.KindDerive, 7, 2, 60), 1, func(d *api.Desk) {
+		d.Registry.Tokens[3] = api.Token{Used: true, Secret: []byte("nonce001"), Rights: 7, Class: 2, Until: 70}
+		d.Draws = nil
+	}, issued)
 	poor := busy()
 	poor.Draws = nil
 	expectFault(t, "Derive without a draw", poor, item(0, api.KindDerive, 7, 2, 60), 1, api.ErrDraw)

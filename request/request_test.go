@@ -222,6 +222,7 @@ func TestSubmitErrors(t *testing.T) {
 		"ErrRange ahead of ErrExists":  {func(s *submitted) { s.id, s.life = 5, 0 }, api.ErrRange},
 		"ErrRange ahead of ErrQuota":   {func(s *submitted) { s.quota, s.legs = 3, nil }, api.ErrRange},
 		"an ID that is there":          {func(s *submitted) { s.id = 5 }, api.ErrExists},
+		"the first ID":                 {func(s *submitted) { s.id = 2 }, api.ErrExists},
 		"ErrExists ahead of ErrQuota":  {func(s *submitted) { s.quota, s.id = 3, 9 }, api.ErrExists},
 		"as many as the quota":         {func(s *submitted) { s.quota = 3 }, api.ErrQuota},
 		"the quota 0":                  {func(s *submitted) { s.l, s.quota = nil, 0 }, api.ErrQuota},
@@ -258,6 +259,13 @@ func TestUpdate(t *testing.T) {
 	}
 	got[0].Legs[0].Phase = 5
 	expect(t, "the argument", l, three())
+	want = three()
+	want[0].Legs = []api.Leg{leg(0, 1, 101, 102, 10), leg(2, 3, 103, 104, -1)}
+	got, e = request.Update(three(), 2, [][2]int{{1, 2}, {3, 4}}, 100)
+	expect(t, "Update of the first one", got, want)
+	if e != api.OK {
+		t.Errorf("Update of the first one: %d", e)
+	}
 	want = three()
 	want[1].Legs[0].From, want[1].Legs[0].To = api.MaxTick, api.MaxTick+600
 	got, e = request.Update(three(), 5, [][2]int{{0, 600}}, api.MaxTick)

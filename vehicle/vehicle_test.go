@@ -121,6 +121,7 @@ func TestRegisterErrors(t *testing.T) {
 		"the greatest class":           {nil, a, v(1, math.MaxInt), api.ErrClass},
 		"ErrClass ahead of ErrExists":  {many(3, 0), a, v(10, 3), api.ErrClass},
 		"an ID that is there":          {many(3, 2), a, v(10, 2), api.ErrExists},
+		"the first ID":                 {many(3, 2), a, v(0, 2), api.ErrExists},
 		"an ID of another class":       {many(3, 2), a, v(10, 1), api.ErrExists},
 		"ErrExists ahead of ErrQuota":  {many(3, 0), a, v(20, 0), api.ErrExists},
 		"as many as permitted":         {many(1, 0), a, v(5, 0), api.ErrQuota},
