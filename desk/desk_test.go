@@ -109,7 +109,7 @@ func TestNew(t *testing.T) {
 		d.Registry.Agency.Secret[0] = 0
 		expect(t, "the argument", a.Secret, agency().Secret)
 	}
-	for _, n := range []int{-1, math.MinInt, math.MaxInt} {
+	for _, n := range []int{-1, math.MinInt} {
 		desk.New(0, api.Agency{Sessions: n})
 	}
 }
